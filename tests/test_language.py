@@ -1,4 +1,7 @@
-"""The package's files keep to LANGUAGE.md, as far as the look of a file tells it (the rules' numbers in brackets)."""
+"""The package's files keep to a part of LANGUAGE.md: the rules whose numbers stand below, and files, names, imports.
+
+Not looked at here: L9, L11, L13, L18, L19, L22 to L24, L26 to L28, and of L15 and L17 what needs more than a name.
+"""
 
 import ast
 import builtins
