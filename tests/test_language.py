@@ -1,6 +1,7 @@
 """The package's files keep to a part of LANGUAGE.md: the rules whose numbers stand below, and files, names, imports.
 
-Not looked at here: L9, L11, L13, L18, L19, L22 to L24, L26 to L28, and of L15 and L17 what needs more than a name.
+Not looked at here: L9, L11, L13, L19, L22, L26 to L28, of L15 and L17 what needs more than a name, of L18 all but
+methods and values of one name, of L23 what a loop changes.
 """
 
 import ast
@@ -40,6 +41,9 @@ WORDS = (
 PARTS = ("dataclass", "overload", "contextmanager")
 UNUSED = "register mro elements open input version_info with_traceback add_note format format_map".split()
 FILES = "test tests testing site conftest sitecustomize usercustomize".split()
+WALKED = "zip enumerate reversed range".split()
+VIEWS = "items keys values".split()
+WALKERS = "list tuple dict sorted sum any all enumerate zip min max".split()
 
 
 def sources():
@@ -72,6 +76,55 @@ def top_names(tree):
         elif isinstance(node, ast.ImportFrom):
             names.extend(given.name for given in node.names)
     return names
+
+
+def taken_names(tree):
+    """The classes and imports of a file: no parameter and no local is called like one."""
+    names = [node.name for node in tree.body if isinstance(node, ast.ClassDef)]
+    return names + [given.name for node in tree.body if isinstance(node, ast.ImportFrom) for given in node.names]
+
+
+def inner_names(tree):
+    """The parameters and locals of a file's defs."""
+    names = []
+    for node in ast.walk(tree):
+        if isinstance(node, (ast.FunctionDef, ast.Lambda)):
+            names.extend(inner.arg for inner in ast.walk(node) if isinstance(inner, ast.arg))
+            names.extend(
+                inner.id for inner in ast.walk(node) if isinstance(inner, ast.Name) and isinstance(inner.ctx, ast.Store)
+            )
+    return names
+
+
+def own_values():
+    found = []
+    for path, text in sources():
+        for node in ast.walk(ast.parse(text)):
+            if isinstance(node, ast.Attribute) and isinstance(node.ctx, ast.Store):
+                found.append(node.attr)
+    return found
+
+
+def called(node):
+    return node.func.id if isinstance(node, ast.Call) and isinstance(node.func, ast.Name) else None
+
+
+def is_walked_at_once(tree, node):
+    for other in ast.walk(tree):
+        if isinstance(other, (ast.For, ast.comprehension)) and other.iter == node:
+            return True
+        if called(other) in WALKERS and other.args[:1] == [node]:
+            return True
+    return False
+
+
+def is_set_in_place(tree, node):
+    for other in ast.walk(tree):
+        if called(other) in ("sorted", "len") and other.args == [node] and not other.keywords:
+            return True
+        if isinstance(other, ast.Compare) and node in [other.left] + other.comparators:
+            return True
+    return False
 
 
 def own_methods():
@@ -129,8 +182,8 @@ def faults_of_node(node, methods):
 class Language(unittest.TestCase):
     def test_there_are_files(self):
         names = [path.name for path, text in sources()]
-        for name in ("__init__.py", "errors.py", "words.py", "deeds.py"):
-            self.assertIn(name, names)
+        for name in "__init__ errors words deeds plans ways runs ready wanted brinks choices".split():
+            self.assertIn(name + ".py", names)
 
     def test_files(self):
         for path in PACKAGE.iterdir():
@@ -179,6 +232,25 @@ class Language(unittest.TestCase):
                     self.assertNotIn(name, UNUSED + dir(builtins))
             names = top_names(tree)
             self.assertEqual(len(names), len(set(names)), path.name)
+
+    def test_no_local_is_called_like_a_class_or_an_import(self):
+        for path, text in sources():
+            tree = ast.parse(text)
+            self.assertEqual([name for name in inner_names(tree) if name in taken_names(tree)], [], path.name)
+
+    def test_no_name_is_a_method_and_a_value(self):
+        methods = own_methods()
+        self.assertEqual([name for name in own_values() if name in methods], [])
+
+    def test_walked_at_once_and_sets_in_place(self):
+        for path, text in sources():
+            tree = ast.parse(text)
+            for node in ast.walk(tree):
+                view = isinstance(node, ast.Call) and isinstance(node.func, ast.Attribute) and node.func.attr in VIEWS
+                if view or called(node) in WALKED:
+                    self.assertTrue(is_walked_at_once(tree, node), (path.name, node.lineno))
+                if called(node) in ("set", "frozenset"):
+                    self.assertTrue(is_set_in_place(tree, node), (path.name, node.lineno))
 
     def test_imports(self):
         trees = {"oncedone." + path.stem: ast.parse(text) for path, text in sources()}
