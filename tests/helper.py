@@ -47,6 +47,13 @@ ROW_POOL = (
     ("copy", "a", 3), ("copy", "z", "a"), SKIP, SKIP, ("tell", "x"), ASK, ASK, ASK, ASK, ("ask", 0),
 )
 
+# What is asked is taken in or reckoned, so that runs go all ways, and some names are those that shelves would have.
+RUN_POOL = (
+    DO, DO, DO_AND_SPOIL, ("set", "k0", DEED), ("set", "x", ("less", "a", 3)), ("set", "y", ("less", "a", 3)),
+    ("set", "b", ("minus", "a", "k2")), ("copy", "a", "k0"), ("copy", "k2", 2), ("take", "a"), ("take", "q"), SPOIL,
+    SKIP, ("tell", "x"), ("tell", "k0"), ("tell", "b"), ASK, ASK, ("ask", "x"), ("ask", "a"), ("ask", "b"),
+)
+
 
 def thrown_nets(dice, many, pool):
     """Rows and nexts that have the right form; whether they make a plan is another matter."""
@@ -58,15 +65,41 @@ def thrown_nets(dice, many, pool):
     return rows, nexts
 
 
-def small_plans(seed, many, most_places):
+def small_plans(seed, many, most_places, pool=ROW_POOL):
     """As many plans of each number of places."""
     dice = Dice(seed)
     plans = []
     for k in range(many):
-        rows, nexts = thrown_nets(dice, 1 + k % most_places, ROW_POOL)
+        rows, nexts = thrown_nets(dice, 1 + k % most_places, pool)
         while refusal(Plan, rows, nexts) is not None:
-            rows, nexts = thrown_nets(dice, 1 + k % most_places, ROW_POOL)
+            rows, nexts = thrown_nets(dice, 1 + k % most_places, pool)
         plans.append(Plan(rows, nexts))
+    return plans
+
+
+def shuffled(dice, things):
+    left = list(things)
+    return [left.pop(dice.below(len(left))) for thing in things]
+
+
+def renumbered(dice, rows, nexts):
+    """The same net with all places but place 0 numbered otherwise, and the old number of each."""
+    order = [0] + shuffled(dice, range(1, len(rows)))
+    return [rows[place] for place in order], [[order.index(place) for place in nexts[old]] for old in order], order
+
+
+def grown_plans(seed, many, most_places, pool=ROW_POOL):
+    """Greater plans: each place leads to the next one, rows that ask to any place too; then numbered otherwise."""
+    dice = Dice(seed)
+    plans = []
+    for k in range(many):
+        places = 2 + k % (most_places - 1)
+        rows = [dice.one_of(pool) for place in range(places - 1)] + [SKIP]
+        nexts = []
+        for place, row in enumerate(rows):
+            on = [] if place + 1 == places else [place + 1]
+            nexts.append(shuffled(dice, on + [dice.below(places)]) if row[0] == "ask" else on)
+        plans.append(Plan(*renumbered(dice, rows, nexts)[:2]))
     return plans
 
 
@@ -214,3 +247,120 @@ def brink_list(plan, deed):
             elif not ready_behind[step[0]] and (spoils(plan.rows[step[0]], deed) or not wanted_behind[step[0]]):
                 brinks.append(step)
     return brinks
+
+
+def waits_along(plan, deed, brinks, held, way):
+    """Point 17 of one way: a brink, and behind it no place that is held, none but the last that does the deed."""
+    places = walked(plan, way)
+    for k, step in enumerate(way):
+        behind = places[k:]
+        if step in brinks and not any(place in held for place in behind):
+            if not any(does(plan.rows[place], deed) for place in behind[:-1]):
+                return True
+    return False
+
+
+class ByHand:
+    """Points 17 and 18 by walking all ways of the bound."""
+
+    def __init__(self, plan, deed, held):
+        places = range(len(plan.rows))
+        brinks = brink_list(plan, deed)
+        self.waits = [True for place in places]
+        for way in ways_from_first(plan):
+            if not waits_along(plan, deed, brinks, held, way):
+                self.waits[led(plan, way[-1])] = False
+        self.on = {
+            step: step in brinks or (step != FIRST and self.waits[step[0]] and not does(plan.rows[step[0]], deed))
+            for step in all_steps(plan)
+        }
+        self.puts = [step for step in all_steps(plan) if self.on[step] and not self.waits[led(plan, step)]]
+        self.outs = [place for place in places if does(plan.rows[place], deed) and not self.waits[place]]
+        self.stays = [place for place in places if does(plan.rows[place], deed) and self.waits[place]]
+        self.behind = [any(self.keeps(plan, way) for way in ways_on(plan, place)) for place in places]
+        self.at = [place in self.outs or (place not in self.stays and self.behind[place]) for place in places]
+        self.stores = [place for place in self.stays if self.behind[place]]
+
+    def keeps(self, plan, way):
+        places = walked(plan, way)
+        if places[-1] not in self.outs or any(step in self.puts for step in way):
+            return False
+        return not any(place in self.stays for place in places)
+
+
+def helds(plan, dice):
+    """Lists of places: none, some, some twice, all, and one."""
+    places = list(range(len(plan.rows)))
+    some = [place for place in places if dice.below(2)]
+    return [[], some, some + some[::-1], places, [dice.one_of(places)]]
+
+
+def names_of(plan):
+    """Point 9: the names that rows set or read."""
+    words = []
+    for row in plan.rows:
+        words.extend([row[1]] + list(row[2][1:]) if row[0] == "set" else row[1:])
+    return {word for word in words if isinstance(word, str)}
+
+
+def deeds_of(plan):
+    """Point 9: the deeds in the order of the first place that does each."""
+    return list(dict.fromkeys(row[2] for row in plan.rows if row[0] == "set"))
+
+
+def parts_by_hand(plan, held):
+    """For each deed its puts, outs and stores, by walking all ways of the bound."""
+    parts = {}
+    for deed in deeds_of(plan):
+        choice = ByHand(plan, deed, held)
+        parts[deed] = (choice.puts, choice.outs, choice.stores)
+    return parts
+
+
+def shelves_by_hand(plan, parts):
+    free = iter("k%d" % number for number in range(2000) if "k%d" % number not in names_of(plan))
+    return {deed: next(free) for deed, (puts, outs, stores) in parts.items() if puts or stores}
+
+
+def moved_by_hand(plan, parts):
+    """Point 21, in the order in which it tells the places: rows, nexts, origins and shelves."""
+    shelves = shelves_by_hand(plan, parts)
+    rows, origins = [], []
+
+    def put(step):
+        for deed, part in parts.items():
+            if step in part[0]:
+                rows.append(("set", shelves[deed], deed))
+                origins.append(("put", step, deed))
+
+    put(FIRST)
+    for place, row in enumerate(plan.rows):
+        if row[0] == "set" and place in parts[row[2]][2]:
+            rows.append(("set", shelves[row[2]], row[2]))
+            origins.append(("store", place, row[2]))
+        copied = row[0] == "set" and place in parts[row[2]][1] + parts[row[2]][2]
+        rows.append(("copy", row[1], shelves[row[2]]) if copied else row)
+        origins.append(("own", place))
+        for at in range(len(plan.nexts[place])):
+            put((place, at))
+
+    def entered(place):
+        # A store's place stands right ahead of the own one.
+        own = origins.index(("own", place))
+        return own - 1 if own and origins[own - 1][:2] == ("store", place) else own
+
+    def leads(step):
+        puts = [k for k, origin in enumerate(origins) if origin[:2] == ("put", step)]
+        return puts[0] if puts else entered(led(plan, step))
+
+    nexts = []
+    for k, origin in enumerate(origins):
+        if origin[0] == "own":
+            nexts.append([leads((origin[1], at)) for at in range(len(plan.nexts[origin[1]]))])
+        elif origin[0] == "store":
+            nexts.append([origins.index(("own", origin[1]))])
+        elif k + 1 < len(origins) and origins[k + 1][:2] == origin[:2]:
+            nexts.append([k + 1])
+        else:
+            nexts.append([entered(led(plan, origin[1]))])
+    return rows, nexts, origins, shelves

@@ -7,50 +7,11 @@ import unittest
 from oncedone.choices import Choice
 from oncedone.errors import NoThing, TooMany, Wrong
 from oncedone.plans import Plan
-from tests.helper import ASK, DEED, DO, DO_AND_SPOIL, FIRST, NO_LISTS, NO_PLACES, SKIP, SPOIL, Dice, all_steps
-from tests.helper import backward_chain, brink_list, chain, does, led, refusal, ring, rows_along, small_plans, spoils
-from tests.helper import walked, ways_from_first, ways_on, whole_ways, whole_ways_on
+from tests.helper import ASK, DEED, DO, DO_AND_SPOIL, FIRST, NO_LISTS, NO_PLACES, SKIP, SPOIL, ByHand, Dice
+from tests.helper import all_steps, backward_chain, brink_list, chain, does, helds, led, refusal, ring, rows_along
+from tests.helper import small_plans, spoils, walked, ways_from_first, whole_ways, whole_ways_on
 
 DEEDS = (DEED, ("plus", "b", "a"), ("times", "a", "b"), ("same", 1, 2))
-
-
-def waits_along(plan, deed, brinks, held, way):
-    """Point 17 of one way: a brink, and behind it no place that is held, none but the last that does the deed."""
-    places = walked(plan, way)
-    for k, step in enumerate(way):
-        behind = places[k:]
-        if step in brinks and not any(place in held for place in behind):
-            if not any(does(plan.rows[place], deed) for place in behind[:-1]):
-                return True
-    return False
-
-
-class ByHand:
-    """Points 17 and 18 by walking all ways of the bound."""
-
-    def __init__(self, plan, deed, held):
-        places = range(len(plan.rows))
-        brinks = brink_list(plan, deed)
-        self.waits = [True for place in places]
-        for way in ways_from_first(plan):
-            if not waits_along(plan, deed, brinks, held, way):
-                self.waits[led(plan, way[-1])] = False
-        self.on = {
-            step: step in brinks or (step != FIRST and self.waits[step[0]] and not does(plan.rows[step[0]], deed))
-            for step in all_steps(plan)
-        }
-        self.puts = [step for step in all_steps(plan) if self.on[step] and not self.waits[led(plan, step)]]
-        self.outs = [place for place in places if does(plan.rows[place], deed) and not self.waits[place]]
-        self.stays = [place for place in places if does(plan.rows[place], deed) and self.waits[place]]
-        self.behind = [any(self.keeps(plan, way) for way in ways_on(plan, place)) for place in places]
-        self.at = [place in self.outs or (place not in self.stays and self.behind[place]) for place in places]
-        self.stores = [place for place in self.stays if self.behind[place]]
-
-    def keeps(self, plan, way):
-        places = walked(plan, way)
-        if places[-1] not in self.outs or any(step in self.puts for step in way):
-            return False
-        return not any(place in self.stays for place in places)
 
 
 def told_of(plan, choice):
@@ -60,12 +21,6 @@ def told_of(plan, choice):
         [choice.alive_at(place) for place in places], [choice.alive_behind(place) for place in places],
         choice.puts(), choice.outs(), choice.stays(), choice.stores(),
     )
-
-
-def helds(plan, dice):
-    places = list(range(len(plan.rows)))
-    some = [place for place in places if dice.below(2)]
-    return [[], some, some + some[::-1], places, [dice.one_of(places)]]
 
 
 class Choices(unittest.TestCase):

@@ -182,7 +182,9 @@ def faults_of_node(node, methods):
 class Language(unittest.TestCase):
     def test_there_are_files(self):
         names = [path.name for path, text in sources()]
-        for name in "__init__ errors words deeds plans ways runs ready wanted brinks choices".split():
+        for name in (
+            "__init__ errors words deeds plans ways runs ready wanted brinks choices shelves moved judge lookers"
+        ).split():
             self.assertIn(name + ".py", names)
 
     def test_files(self):
