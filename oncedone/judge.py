@@ -1,10 +1,10 @@
 """The judge of drafts: whether what anybody hands in as a moved plan is one that does no harm."""
 
 from oncedone.checks import is_below
-from oncedone.deeds import deed_of, set_by
+from oncedone.deeds import deed_of, set_by, spoils
 from oncedone.errors import OnceError
 from oncedone.plans import FIRST_STEP, Plan
-from oncedone.ready import Ready
+from oncedone.ready import Ready, unready_steps
 from oncedone.wanted import Wanted
 from oncedone.ways import is_step
 from oncedone.words import is_deed, is_name
@@ -124,14 +124,6 @@ def has_rows(plan, made, origins, shelves):
     return True
 
 
-def shelves_alone(made, origins):
-    # A plan of the same net in which own rows do no deed: what they do isn't put on a shelf.
-    rows = []
-    for row, origin in zip(made.rows, origins):
-        rows.append(("take", set_by(row)) if origin[0] == "own" and deed_of(row) is not None else row)
-    return Plan(rows, made.nexts)
-
-
 def copies_by_deed(plan, made, origins):
     found = {}
     for place, origin in enumerate(origins):
@@ -140,11 +132,12 @@ def copies_by_deed(plan, made, origins):
     return found
 
 
-def has_copies_ready(plan, made, origins):
-    alone = shelves_alone(made, origins)
+def has_copies_ready(plan, made, origins, shelves):
     for deed, places in copies_by_deed(plan, made, origins).items():
-        ready = Ready(alone, deed)
-        if not all([ready.ready_at(place) for place in places]):
+        # Own rows that do the deed put nothing on its shelf.
+        kept = [row == ("set", shelves[deed], deed) for row in made.rows]
+        unready = unready_steps(made, kept, [spoils(row, deed) for row in made.rows])
+        if any([place in unready for place in places]):
             return False
     return True
 
@@ -175,6 +168,6 @@ def fault(plan, draft):
         return "net"
     if not has_rows(plan, made, origins, draft[3]):
         return "rows"
-    if not has_copies_ready(plan, made, origins):
+    if not has_copies_ready(plan, made, origins, draft[3]):
         return "unready"
     return None if has_puts_wanted(plan, origins) else "unwanted"

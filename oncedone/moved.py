@@ -121,3 +121,10 @@ class Moved:
 
 def moved(plan, held=None):
     return Moved(plan, held)
+
+
+def moved_by(plan, choices):
+    # Whoever has the choices at hand needn't have them reckoned again: those of the barest plan are none.
+    told = Moved(Plan([("skip",)], [[]]))
+    told.lay_out(plan, choices)
+    return told

@@ -12,18 +12,19 @@ def pass_on(plan, place, come_by, order):
             order.append(target)
 
 
-def unready_steps(plan, deed):
-    # The places at which the deed isn't ready, each with a step on which it isn't ready and that leads there.
+def unready_steps(plan, made, broken):
+    # By what the rows make ready and break, place by place: the places at which it isn't ready, each with a step on
+    # which it isn't ready and that leads there.
     come_by = {0: FIRST_STEP}
     order = [0]
-    for place, row in enumerate(plan.rows):
-        if spoils(row, deed):
+    for place in range(len(plan.rows)):
+        if broken[place]:
             pass_on(plan, place, come_by, order)
     done = 0
     while done < len(order):
         place = order[done]
         done += 1
-        if not does(plan.rows[place], deed):
+        if not made[place]:
             pass_on(plan, place, come_by, order)
     return come_by
 
@@ -32,7 +33,8 @@ class Ready:
     def __init__(self, plan, deed):
         self.plan = plan
         self.deed = deed
-        self.come_by = unready_steps(plan, deed)
+        made = [does(row, deed) for row in plan.rows]
+        self.come_by = unready_steps(plan, made, [spoils(row, deed) for row in plan.rows])
 
     def ready_at(self, place):
         return place not in self.come_by

@@ -54,6 +54,14 @@ RUN_POOL = (
     SKIP, ("tell", "x"), ("tell", "k0"), ("tell", "b"), ASK, ASK, ("ask", "x"), ("ask", "a"), ("ask", "b"),
 )
 
+# Copies, and what breaks them.
+COPY_POOL = (
+    ("copy", "a", "b"), ("copy", "a", "b"), ("copy", "a", 5), ("copy", "b", "a"), ("copy", "b", 5), ("copy", "c", "a"),
+    ("copy", "a", "a"), ("copy", "x", "c"), ("copy", "q", "b"), ("copy", "k0", "a"), ("take", "b"), ("take", "q"),
+    ("set", "a", ("plus", "a", "b")), ("set", "x", ("plus", "c", "b")), ("set", "c", ("less", "k0", "a")), SKIP, SKIP,
+    ("tell", "a"), ("tell", "c"), ("tell", "x"), ASK, ASK, ASK, ("ask", "a"), ("ask", "b"),
+)
+
 
 def thrown_nets(dice, many, pool):
     """Rows and nexts that have the right form; whether they make a plan is another matter."""

@@ -183,7 +183,8 @@ class Language(unittest.TestCase):
     def test_there_are_files(self):
         names = [path.name for path, text in sources()]
         for name in (
-            "__init__ errors words deeds plans ways runs ready wanted brinks choices shelves moved judge lookers"
+            "__init__ errors words deeds plans ways runs ready wanted brinks choices shelves moved judge lookers copies "
+            "rounds bench texts"
         ).split():
             self.assertIn(name + ".py", names)
 
