@@ -1,7 +1,8 @@
 """The package's files keep to a part of LANGUAGE.md: the rules whose numbers stand below, and files, names, imports.
 
-Not looked at here: L9, L11, L13, L19, L22, L26 to L28, of L15 and L17 what needs more than a name, of L18 all but
-methods and values of one name, of L23 what a loop changes.
+Not looked at here: L9, L11 but for defs that call themselves, L13, L27, L28, of L15 and L17 what needs more than a
+name, of L18 all but methods and values of one name, of L19 all but what is taken, of L22 all but isinstance and
+keywords.
 """
 
 import ast
@@ -43,6 +44,14 @@ UNUSED = "register mro elements open input version_info with_traceback add_note 
 FILES = "test tests testing site conftest sitecustomize usercustomize".split()
 WALKED = "zip enumerate reversed range".split()
 VIEWS = "items keys values".split()
+CHANGES = "append clear extend insert pop remove reverse setdefault update".split()
+KEYWORDS = {"sorted": ["key", "reverse"], "min": ["key", "default"], "max": ["key", "default"], "sum": ["start"],
+            "enumerate": ["start"], "zip": ["strict"]}
+LOOKED_AT = "int str bool list tuple dict".split()
+# Methods and values of Python's own texts, numbers, lists, dicts, sets and bytes; L26 lets some names of values be.
+PYTHONS = [name for kind in (str, int, list, tuple, dict, set, frozenset, bytes, bytearray) for name in dir(kind)]
+FREE_VALUES = "count index title find get join lower upper split strip copy add".split()
+FREE_METHODS = ["add", "discard"] + METHODS
 WALKERS = "list tuple dict sorted sum any all enumerate zip min max".split()
 
 
@@ -179,12 +188,42 @@ def faults_of_node(node, methods):
         yield "L17: a name that is not used"
 
 
+def changed_within(loop):
+    """The names of what the body of a loop changes: by a method that changes, or by giving a part of it a value."""
+    names = []
+    for node in [inner for row in loop.body for inner in ast.walk(row)]:
+        if isinstance(node, ast.Call) and isinstance(node.func, ast.Attribute) and node.func.attr in CHANGES:
+            names.append(ast.unparse(node.func.value))
+        if isinstance(node, ast.Subscript) and isinstance(node.ctx, ast.Store):
+            names.append(ast.unparse(node.value))
+        if isinstance(node, ast.AugAssign):
+            names.append(ast.unparse(node.target))
+    return names
+
+
+def own_classes():
+    return [node.name for path, text in sources() for node in ast.parse(text).body if isinstance(node, ast.ClassDef)]
+
+
+def faults_of_call(node, classes):
+    name = called(node)
+    given = [keyword.arg for keyword in node.keywords]
+    if name in BUILTINS and [word for word in given if word not in KEYWORDS.get(name, [])]:
+        yield "L22: a keyword"
+    if isinstance(node.func, ast.Attribute) and node.func.attr in METHODS and given:
+        yield "L22: a keyword"
+    if name == "isinstance":
+        kinds = node.args[1].elts if isinstance(node.args[1], ast.Tuple) else [node.args[1]]
+        if any(not isinstance(kind, ast.Name) or kind.id not in LOOKED_AT + classes for kind in kinds):
+            yield "L22: isinstance"
+
+
 class Language(unittest.TestCase):
     def test_there_are_files(self):
         names = [path.name for path, text in sources()]
         for name in (
-            "__init__ errors words deeds plans ways runs ready wanted brinks choices shelves moved judge lookers copies "
-            "rounds bench texts"
+            "__init__ errors words deeds plans ways runs ready wanted brinks choices shelves moved judge lookers "
+            "copies rounds bench texts"
         ).split():
             self.assertIn(name + ".py", names)
 
@@ -254,6 +293,38 @@ class Language(unittest.TestCase):
                     self.assertTrue(is_walked_at_once(tree, node), (path.name, node.lineno))
                 if called(node) in ("set", "frozenset"):
                     self.assertTrue(is_set_in_place(tree, node), (path.name, node.lineno))
+
+    def test_no_loop_changes_what_it_walks(self):
+        for path, text in sources():
+            for node in ast.walk(ast.parse(text)):
+                if isinstance(node, ast.For):
+                    walked = [ast.unparse(inner) for inner in ast.walk(node.iter)]
+                    found = [name for name in changed_within(node) if name in walked]
+                    self.assertEqual(found, [], (path.name, node.lineno))
+
+    def test_what_is_taken_and_how_pythons_own_are_called(self):
+        classes = own_classes()
+        for path, text in sources():
+            for node in ast.walk(ast.parse(text)):
+                if isinstance(node, ast.ExceptHandler):
+                    self.assertIsInstance(node.type, ast.Name, (path.name, node.lineno))
+                    self.assertIn(node.type.id, classes, (path.name, node.lineno))
+                if isinstance(node, ast.Call):
+                    self.assertEqual(list(faults_of_call(node, classes)), [], (path.name, node.lineno))
+
+    def test_names_of_methods_and_values(self):
+        for name in own_methods():
+            self.assertTrue(name in DUNDERS or name not in PYTHONS or name in FREE_METHODS, name)
+        for name in own_values():
+            self.assertTrue(name not in PYTHONS or name in FREE_VALUES, name)
+            self.assertNotIn(name, ("args", "encode", "format", "with_traceback"))
+
+    def test_no_def_calls_itself(self):
+        for path, text in sources():
+            for node in ast.walk(ast.parse(text)):
+                if isinstance(node, ast.FunctionDef):
+                    calls = [called(inner) for inner in ast.walk(node)]
+                    self.assertNotIn(node.name, calls, path.name)
 
     def test_imports(self):
         trees = {"oncedone." + path.stem: ast.parse(text) for path, text in sources()}
