@@ -3,11 +3,13 @@
 import copy
 import unittest
 
+from oncedone.brinks import Brinks
 from oncedone.choices import Choice
 from oncedone.errors import NoThing, TooMany, Wrong
 from oncedone.moved import Moved, moved
 from oncedone.plans import Plan
 from oncedone.runs import counts, run
+from oncedone.ways import way_on, way_to
 from tests.helper import ASK, DEED, DO, DO_AND_SPOIL, FIRST, NO_LISTS, NO_PLACES, RUN_POOL, SKIP, SPOIL, Dice
 from tests.helper import backward_chain, brink_list, chain, deeds_of, goes, grown_plans, helds, is_stop, led
 from tests.helper import moved_by_hand, names_of, parts_by_hand, refusal, ring, small_plans, walked, ways_from_first
@@ -382,6 +384,21 @@ class TheWhole(unittest.TestCase):
                         self.assertEqual(many.get(deed, 0), wanted)
                         self.assertLessEqual(wanted, old[deed])
                         fewer += wanted < old[deed]
+        self.assertGreater(fewer, 300)
+
+    def test_greater_plans_on_one_whole_way_through_each_place(self):
+        dice = Dice(238)
+        fewer = 0
+        for plan in grown_plans(238, 80, 30, RUN_POOL) + grown_plans(239, 80, 30):
+            told = moved(plan, dice.one_of(helds(plan, dice)))
+            brinks = {deed: Brinks(plan, deed).steps() for deed in deeds_of(plan)}
+            for place in range(len(plan.rows)):
+                way = way_to(plan, place) + way_on(plan, place)
+                many, old = counts(told.plan, told.way_in(way)), counts(plan, way)
+                for deed in brinks:
+                    self.assertEqual(many.get(deed, 0), sum(step in brinks[deed] for step in way))
+                    self.assertLessEqual(many.get(deed, 0), old[deed])
+                    fewer += many.get(deed, 0) < old[deed]
         self.assertGreater(fewer, 300)
 
     def test_counts_of_a_whole_way(self):
